@@ -1,0 +1,172 @@
+package keel_test
+
+import (
+	"math"
+	"slices"
+	"strings"
+	"sync"
+	"testing"
+	"unsafe"
+
+	"keel/api"
+	"keel/keel"
+)
+
+func oddTexts() []string {
+	texts := []string{"", "K", "K\x01", "K\x01\x01", "\x00", "\xff\xff\xff", "\u00fc", fill(1 << 20), "K\x01" + fill(1<<20), "K\x01\x06" + strings.Repeat("\x00", 1<<20), pair, example, pair + pair}
+	r := chance()
+	for range 3000 {
+		texts = append(texts, chanceText(r, r.Intn(40)), "K\x01"+chanceText(r, r.Intn(40)))
+		b, _ := keel.Bytes(chanceContainer(r))
+		texts = append(texts, b[:r.Intn(len(b)+1)], put(b, r.Intn(len(b)), byte(r.Intn(256))))
+	}
+	return texts
+}
+
+func oddNumbers() []int {
+	return []int{math.MinInt, -1, 0, 1, 400, 401, 3000, 3001, 1 << 40, math.MaxInt}
+}
+
+func oddContainers() []api.Container {
+	list := []api.Container{{}, {Sections: []api.Section{}}, {Sections: make([]api.Section, 6)}, {Sections: make([]api.Section, 1<<20)}, {Data: fill(1 << 20)}, container(fill(61), section(0, 128, 0, "\x00")), container("", section(0, 128, 0, fill(1<<20))), exampleContainer(), pairContainer()}
+	r := chance()
+	for range 1000 {
+		c := chanceContainer(r)
+		list = append(list, c)
+		d := container(c.Data, slices.Clone(c.Sections)...)
+		s := &d.Sections[r.Intn(len(d.Sections))]
+		wild := oddNumbers()
+		s.Inputs, s.Outputs, s.Max = wild[r.Intn(len(wild))], wild[r.Intn(len(wild))], wild[r.Intn(len(wild))]
+		list = append(list, d)
+	}
+	return list
+}
+
+// P1: an error comes with nothing else, and a panic would end the test.
+func TestNoPanicOnTexts(t *testing.T) {
+	numbers := oddNumbers()
+	for at, b := range oddTexts() {
+		if c, e := keel.Parse(b); e != api.OK && !empty(c) {
+			t.Errorf("P1: Parse(%.80q) = %s with error %d", b, show(c), e)
+		}
+		for i, gas := range numbers {
+			if o, e := keel.Run(b, gas); e != api.OK && (o.End != 0 || len(o.Out) != 0 || o.Gas != 0 || o.Steps != 0) {
+				t.Errorf("P1: Run(%.80q, %d) = %+v with error %d", b, gas, o, e)
+			}
+			n := numbers[(i+at)%len(numbers)]
+			if l, e := keel.Trace(b, gas, n); e != api.OK && len(l) != 0 {
+				t.Errorf("P1: Trace(%.80q, %d, %d) = %+v with error %d", b, gas, n, l, e)
+			}
+		}
+	}
+}
+
+func TestNoPanicOnContainers(t *testing.T) {
+	for _, c := range oddContainers() {
+		if b, e := keel.Bytes(c); e != api.OK && b != "" {
+			t.Errorf("P1: Bytes = %.80q with error %d", b, e)
+		}
+		if e, s, p := keel.Check(c); e == api.OK && (s != 0 || p != 0) {
+			t.Errorf("P1: Check = OK, %d, %d", s, p)
+		}
+	}
+}
+
+// P2: neither the sections nor the room behind them change, whether the call has an error or not.
+func TestNothingIsWrittenInto(t *testing.T) {
+	for _, c := range oddContainers() {
+		if len(c.Sections) > 10 {
+			continue
+		}
+		room := make([]api.Section, len(c.Sections)+5)
+		for i := range room {
+			room[i] = section(-i, i, 7*i, "spare")
+		}
+		copy(room, c.Sections)
+		before := slices.Clone(room)
+		given := api.Container{Sections: room[:len(c.Sections)], Data: c.Data}
+		keel.Bytes(given)
+		keel.Check(given)
+		if !slices.Equal(room, before) {
+			t.Fatalf("P2: a call wrote into %s: now %s", show(container("", before...)), show(container("", room...)))
+		}
+	}
+}
+
+func TestListsAreNew(t *testing.T) {
+	first, _ := keel.Parse(pair)
+	second, _ := keel.Parse(pair)
+	all := first.Sections[:cap(first.Sections)]
+	for i := range all {
+		all[i] = section(-1, -1, -1, "gone")
+	}
+	if !same(second, pairContainer()) {
+		t.Errorf("P2: two answers of Parse share their sections: %s", show(second))
+	}
+	wantParse(t, pair, pairContainer())
+
+	given := pairContainer()
+	b, _ := keel.Bytes(given)
+	given.Sections[0] = section(9, 9, 9, "other")
+	if b != pair {
+		t.Errorf("P2: the bytes changed with the container: %q", b)
+	}
+}
+
+// A short code must not keep hold of the text that it was read from, nor bytes of a code.
+func TestTextsAreNew(t *testing.T) {
+	c, _ := keel.Parse(pair)
+	for _, s := range []string{c.Sections[0].Code, c.Sections[1].Code, c.Data} {
+		if within(s, pair) {
+			t.Errorf("P2: %q shares memory with what Parse was given", s)
+		}
+	}
+	long := container(fill(60), section(0, 128, 0, fill(120)))
+	b, _ := keel.Bytes(long)
+	if within(long.Data, b) || within(long.Sections[0].Code, b) {
+		t.Errorf("P2: Bytes shares memory with what it was given")
+	}
+}
+
+func within(part, whole string) bool {
+	start := uintptr(unsafe.Pointer(unsafe.StringData(whole)))
+	at := uintptr(unsafe.Pointer(unsafe.StringData(part)))
+	return start <= at && at < start+uintptr(len(whole))
+}
+
+// P2: the same again, with other calls in between and beside it.
+func TestSameAnswers(t *testing.T) {
+	texts, boxes := oddTexts(), oddContainers()
+	type parsed struct {
+		c api.Container
+		e api.Errno
+	}
+	type written struct {
+		b string
+		e api.Errno
+	}
+	reads, writes := make([]parsed, len(texts)), make([]written, len(boxes))
+	for i, b := range texts {
+		reads[i].c, reads[i].e = keel.Parse(b)
+	}
+	for i, c := range boxes {
+		writes[i].b, writes[i].e = keel.Bytes(c)
+	}
+	var wait sync.WaitGroup
+	for range 4 {
+		wait.Go(func() {
+			for i, b := range slices.Backward(texts) {
+				if c, e := keel.Parse(strings.Clone(b)); e != reads[i].e || !same(c, reads[i].c) {
+					t.Errorf("P2: Parse(%.80q) = %s, %d, before: %s, %d", b, show(c), e, show(reads[i].c), reads[i].e)
+				}
+			}
+			for i, c := range slices.Backward(boxes) {
+				copied := container(strings.Clone(c.Data), slices.Clone(c.Sections)...)
+				if b, e := keel.Bytes(copied); e != writes[i].e || b != writes[i].b {
+					t.Errorf("P2: Bytes = %.80q, %d, before: %.80q, %d", b, e, writes[i].b, writes[i].e)
+				}
+			}
+		})
+	}
+	wait.Wait()
+}
