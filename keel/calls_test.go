@@ -2,6 +2,7 @@ package keel_test
 
 import (
 	"math"
+	"math/rand"
 	"slices"
 	"strings"
 	"sync"
@@ -37,9 +38,21 @@ func oddContainers() []api.Container {
 		s := &d.Sections[r.Intn(len(d.Sections))]
 		wild := oddNumbers()
 		s.Inputs, s.Outputs, s.Max = wild[r.Intn(len(wild))], wild[r.Intn(len(wild))], wild[r.Intn(len(wild))]
-		list = append(list, d)
+		list = append(list, d, chanceProgram(r), spoilt(r, chanceProgram(r)))
 	}
 	return list
+}
+
+// spoilt changes one byte of one code, or cuts it there.
+func spoilt(r *rand.Rand, c api.Container) api.Container {
+	s := &c.Sections[r.Intn(len(c.Sections))]
+	at := r.Intn(len(s.Code))
+	if r.Intn(2) == 0 {
+		s.Code = s.Code[:at]
+	} else {
+		s.Code = put(s.Code, at, byte(r.Intn(256)>>r.Intn(8)))
+	}
+	return c
 }
 
 // P1: an error comes with nothing else, and a panic would end the test.
@@ -63,11 +76,19 @@ func TestNoPanicOnTexts(t *testing.T) {
 
 func TestNoPanicOnContainers(t *testing.T) {
 	for _, c := range oddContainers() {
-		if b, e := keel.Bytes(c); e != api.OK && b != "" {
-			t.Errorf("P1: Bytes = %.80q with error %d", b, e)
+		b, limit := keel.Bytes(c)
+		if limit != api.OK && b != "" {
+			t.Errorf("P1: Bytes = %.80q with error %d", b, limit)
 		}
-		if e, s, p := keel.Check(c); e == api.OK && (s != 0 || p != 0) {
-			t.Errorf("P1: Check = OK, %d, %d", s, p)
+		e, s, place := keel.Check(c)
+		if (e == api.ErrLimit) != (limit == api.ErrLimit) {
+			t.Errorf("P4: Check(%s) = %d, but Bytes %d", show(c), e, limit)
+		}
+		if (e == api.OK || e == api.ErrLimit) && (s != 0 || place != 0) {
+			t.Errorf("P4: Check(%s) = %d, %d, %d", show(c), e, s, place)
+		}
+		if limit == api.OK && (s < 0 || s >= len(c.Sections) || place < 0 || place >= len(c.Sections[s].Code)) {
+			t.Errorf("P4: Check(%s) = %d, %d, %d, which is no place of it", show(c), e, s, place)
 		}
 	}
 }
@@ -145,12 +166,17 @@ func TestSameAnswers(t *testing.T) {
 		b string
 		e api.Errno
 	}
-	reads, writes := make([]parsed, len(texts)), make([]written, len(boxes))
+	type looked struct {
+		e        api.Errno
+		s, place int
+	}
+	reads, writes, looks := make([]parsed, len(texts)), make([]written, len(boxes)), make([]looked, len(boxes))
 	for i, b := range texts {
 		reads[i].c, reads[i].e = keel.Parse(b)
 	}
 	for i, c := range boxes {
 		writes[i].b, writes[i].e = keel.Bytes(c)
+		looks[i].e, looks[i].s, looks[i].place = keel.Check(c)
 	}
 	var wait sync.WaitGroup
 	for range 4 {
@@ -164,6 +190,9 @@ func TestSameAnswers(t *testing.T) {
 				copied := container(strings.Clone(c.Data), slices.Clone(c.Sections)...)
 				if b, e := keel.Bytes(copied); e != writes[i].e || b != writes[i].b {
 					t.Errorf("P2: Bytes = %.80q, %d, before: %.80q, %d", b, e, writes[i].b, writes[i].e)
+				}
+				if e, s, place := keel.Check(copied); (looked{e, s, place}) != looks[i] {
+					t.Errorf("P2: Check(%s) = %d, %d, %d, before: %v", show(c), e, s, place, looks[i])
 				}
 			}
 		})

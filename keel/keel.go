@@ -3,6 +3,7 @@ package keel
 
 import (
 	"keel/api"
+	"keel/check"
 	"keel/wire"
 )
 
@@ -13,7 +14,7 @@ func Parse(b string) (api.Container, api.Errno) { return wire.Read(b) }
 func Bytes(c api.Container) (string, api.Errno) { return wire.Write(c) }
 
 // Check tells whether it holds together (P4).
-func Check(c api.Container) (api.Errno, int, int) { return api.OK, 0, 0 }
+func Check(c api.Container) (api.Errno, int, int) { return check.Container(c) }
 
 // Run runs one (P5).
 func Run(b string, gas int) (api.Outcome, api.Errno) { return api.Outcome{}, api.OK }
