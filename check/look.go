@@ -43,16 +43,9 @@ func (l *look) each(one func(ops.Instruction) api.Errno) (api.Errno, int) {
 	return api.OK, 0
 }
 
-func (l *look) split() (api.Errno, int) {
-	for place := 0; place < len(l.own.Code); {
-		in, e := ops.Read(l.own.Code, place)
-		if e != api.OK {
-			return e, place
-		}
-		l.code = append(l.code, in)
-		place = in.End
-	}
-	return api.OK, 0
+func (l *look) split() (e api.Errno, place int) {
+	l.code, e, place = ops.Split(l.own.Code)
+	return e, place
 }
 
 // references looks at what an instruction names: places and sections.

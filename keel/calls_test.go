@@ -3,10 +3,12 @@ package keel_test
 import (
 	"math"
 	"math/rand"
+	"runtime"
 	"slices"
 	"strings"
 	"sync"
 	"testing"
+	"time"
 	"unsafe"
 
 	"keel/api"
@@ -20,6 +22,10 @@ func oddTexts() []string {
 		texts = append(texts, chanceText(r, r.Intn(40)), "K\x01"+chanceText(r, r.Intn(40)))
 		b, _ := keel.Bytes(chanceContainer(r))
 		texts = append(texts, b[:r.Intn(len(b)+1)], put(b, r.Intn(len(b)), byte(r.Intn(256))))
+	}
+	for range 1000 {
+		b, _ := keel.Bytes(chanceProgram(r))
+		texts = append(texts, b, put(b, r.Intn(len(b)), byte(r.Intn(256)>>r.Intn(8))))
 	}
 	return texts
 }
@@ -63,7 +69,7 @@ func TestNoPanicOnTexts(t *testing.T) {
 			t.Errorf("P1: Parse(%.80q) = %s with error %d", b, show(c), e)
 		}
 		for i, gas := range numbers {
-			if o, e := keel.Run(b, gas); e != api.OK && (o.End != 0 || len(o.Out) != 0 || o.Gas != 0 || o.Steps != 0) {
+			if o, e := keel.Run(b, gas); e != api.OK && !noOutcome(o) {
 				t.Errorf("P1: Run(%.80q, %d) = %+v with error %d", b, gas, o, e)
 			}
 			n := numbers[(i+at)%len(numbers)]
@@ -134,6 +140,41 @@ func TestListsAreNew(t *testing.T) {
 	}
 }
 
+func TestListsOfRunsAreNew(t *testing.T) {
+	o, _ := keel.Run(example, 6)
+	l, _ := keel.Trace(example, 6, 400)
+	for i := range o.Out[:cap(o.Out)] {
+		o.Out[:cap(o.Out)][i] = -1
+	}
+	for i := range l[:cap(l)] {
+		l[:cap(l)][i] = api.Step{Section: -1, Place: -1, Height: -1}
+	}
+	wantRun(t, exampleContainer(), 6, api.Outcome{Out: []int{5}, Steps: 5})
+	wantTrace(t, exampleContainer(), 6, steps([3]int{0, 0, 0}, [3]int{0, 3, 1}, [3]int{0, 6, 2}, [3]int{0, 7, 1}, [3]int{0, 8, 0}))
+}
+
+// P1: whatever a trace wants of its run, that has ended with it.
+func TestTracesEndAll(t *testing.T) {
+	before := runtime.NumGoroutine()
+	loop := written(t, never(0, jump(-3)))
+	for n := range 401 {
+		for _, b := range []string{loop, example, "", pair} {
+			keel.Trace(b, 3000, n)
+			keel.Trace(b, n-1, 1)
+			keel.Trace(b, 3001, n)
+			keel.Trace(b, n, -1)
+		}
+	}
+	// The last one may have closed its channel, and still be on its way out.
+	for range 1000 {
+		if runtime.NumGoroutine() <= before {
+			return
+		}
+		time.Sleep(time.Millisecond)
+	}
+	t.Errorf("P1: %d goroutines ahead of the traces, %d behind them", before, runtime.NumGoroutine())
+}
+
 // A short code must not keep hold of the text that it was read from, nor bytes of a code.
 func TestTextsAreNew(t *testing.T) {
 	c, _ := keel.Parse(pair)
@@ -162,7 +203,7 @@ func TestSameAnswers(t *testing.T) {
 		c api.Container
 		e api.Errno
 	}
-	type written struct {
+	type wrote struct {
 		b string
 		e api.Errno
 	}
@@ -170,9 +211,17 @@ func TestSameAnswers(t *testing.T) {
 		e        api.Errno
 		s, place int
 	}
-	reads, writes, looks := make([]parsed, len(texts)), make([]written, len(boxes)), make([]looked, len(boxes))
+	type ran struct {
+		o    api.Outcome
+		l    []api.Step
+		e, f api.Errno
+	}
+	gas := func(i int) int { return i * 7 % 3000 }
+	reads, writes, looks, runs := make([]parsed, len(texts)), make([]wrote, len(boxes)), make([]looked, len(boxes)), make([]ran, len(texts))
 	for i, b := range texts {
 		reads[i].c, reads[i].e = keel.Parse(b)
+		runs[i].o, runs[i].e = keel.Run(b, gas(i))
+		runs[i].l, runs[i].f = keel.Trace(b, gas(i), i%401)
 	}
 	for i, c := range boxes {
 		writes[i].b, writes[i].e = keel.Bytes(c)
@@ -184,6 +233,12 @@ func TestSameAnswers(t *testing.T) {
 			for i, b := range slices.Backward(texts) {
 				if c, e := keel.Parse(strings.Clone(b)); e != reads[i].e || !same(c, reads[i].c) {
 					t.Errorf("P2: Parse(%.80q) = %s, %d, before: %s, %d", b, show(c), e, show(reads[i].c), reads[i].e)
+				}
+				if o, e := keel.Run(b, gas(i)); e != runs[i].e || !sameOutcome(o, runs[i].o) {
+					t.Errorf("P2: Run(%.80q, %d) = %+v, %d, before: %+v", b, gas(i), o, e, runs[i])
+				}
+				if l, f := keel.Trace(b, gas(i), i%401); f != runs[i].f || !slices.Equal(l, runs[i].l) {
+					t.Errorf("P2: Trace(%.80q, %d, %d) = %v, %d, before: %+v", b, gas(i), i%401, l, f, runs[i])
 				}
 			}
 			for i, c := range slices.Backward(boxes) {

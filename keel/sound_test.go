@@ -12,7 +12,7 @@ import (
 
 // chanceProgram gives a container that may well hold together: on its straight way the code takes no more than there is, and what it names is there.
 func chanceProgram(r *rand.Rand) api.Container {
-	c := api.Container{Sections: make([]api.Section, 1+r.Intn(3))}
+	c := api.Container{Sections: make([]api.Section, 1+r.Intn(3)), Data: chanceText(r, r.Intn(5))}
 	for i := range c.Sections {
 		c.Sections[i] = section(r.Intn(3), r.Intn(3), 0, "")
 		if i == 0 || r.Intn(3) == 0 {
@@ -23,11 +23,17 @@ func chanceProgram(r *rand.Rand) api.Container {
 	for i, s := range c.Sections {
 		c.Sections[i].Code = chanceCode(r, c.Sections, s)
 	}
-	// The greatest heights are found by trying.
-	for range 40 {
-		if e, s, _ := keel.Check(c); e == api.ErrMax && c.Sections[s].Max < 40 {
-			c.Sections[s].Max++
+	return fitted(c)
+}
+
+// fitted gives the container with the greatest heights as its code has them: they are found by trying.
+func fitted(c api.Container) api.Container {
+	for range 240 {
+		e, s, _ := keel.Check(c)
+		if e != api.ErrMax || c.Sections[s].Max >= 40 {
+			break
 		}
+		c.Sections[s].Max++
 	}
 	return c
 }
@@ -39,7 +45,7 @@ func chanceCode(r *rand.Rand, sections []api.Section, own api.Section) string {
 		one := chanceInstruction(r, sections)
 		takes, brings := effect(one, sections, own)
 		if takes > height {
-			one, takes, brings = push(r.Intn(3)), 0, 1
+			one, takes, brings = push(chanceValue(r)), 0, 1
 		}
 		parts = append(parts, one)
 		height += brings - takes
@@ -49,17 +55,23 @@ func chanceCode(r *rand.Rand, sections []api.Section, own api.Section) string {
 
 func chanceInstruction(r *rand.Rand, sections []api.Section) string {
 	n, s := byte(r.Intn(2)), byte(r.Intn(len(sections)))
-	list := []string{push(r.Intn(3)), push(1), pop, add, less, dup(n), swap(n), load, store, data, emit, branch(0), branch(0), branch(0), table(0, 0)}
+	list := []string{push(chanceValue(r)), push(1), pop, add, sub, mul, less, alike, dup(n), swap(n), load, store, data, emit, branch(0), branch(0), branch(0), jump(0), table(0, 0)}
 	if sections[s].Outputs != 128 {
 		list = append(list, call(s), call(s), call(s))
 	}
 	return list[r.Intn(len(list))]
 }
 
+// chanceValue gives small values, those at edges, and any.
+func chanceValue(r *rand.Rand) int {
+	list := []int{0, 0, 1, 1, 2, 3, 15, 16, 255, 256, 32768, 65535, r.Intn(65536)}
+	return list[r.Intn(len(list))]
+}
+
 func chanceEnd(r *rand.Rand, sections []api.Section, own api.Section, height int) []string {
 	s := byte(r.Intn(len(sections)))
 	if own.Outputs == 128 {
-		return []string{[]string{stop, fail, goOver(s)}[r.Intn(3)]}
+		return []string{[]string{stop, fail, goOver(s), jump(0)}[r.Intn(4)]}
 	}
 	last, want := ret, own.Outputs
 	if next := sections[s]; next.Outputs <= own.Outputs && r.Intn(2) == 0 {
@@ -81,7 +93,7 @@ func aimed(r *rand.Rand, parts []string) string {
 		end := begins[i] + len(one)
 		d := func() []byte { return []byte(two(begins[r.Intn(len(begins))] - end)) }
 		switch one[0] {
-		case 16:
+		case 15, 16:
 			parts[i] = put(one, 1, d()...)
 		case 17:
 			parts[i] = put(put(one, 2, d()...), 4, d()...)
@@ -128,6 +140,8 @@ func next(code string, place int) []int {
 		return []int{place + 3}
 	case 9, 10, 18:
 		return []int{place + 2}
+	case 15:
+		return []int{place + 3 + d(place+1)}
 	case 16:
 		return []int{place + 3, place + 3 + d(place+1)}
 	case 17:

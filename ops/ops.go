@@ -30,32 +30,32 @@ const (
 
 // row is what holds for every instruction with an op; a Table is longer by its targets, and what Dup, Swap, Call, Return and Goto take and bring is not the op's alone.
 type row struct {
-	size, takes, brings int
-	last                bool
+	size, takes, brings, cost int
+	last                      bool
 }
 
 var rows = [...]row{
-	Stop:   {1, 0, 0, true},
-	Fail:   {1, 0, 0, true},
-	Push:   {3, 0, 1, false},
-	Pop:    {1, 1, 0, false},
-	Add:    {1, 2, 1, false},
-	Sub:    {1, 2, 1, false},
-	Mul:    {1, 2, 1, false},
-	Less:   {1, 2, 1, false},
-	Same:   {1, 2, 1, false},
-	Dup:    {2, 1, 2, false},
-	Swap:   {2, 2, 2, false},
-	Load:   {1, 1, 1, false},
-	Store:  {1, 2, 0, false},
-	Data:   {1, 1, 1, false},
-	Emit:   {1, 1, 0, false},
-	Jump:   {3, 0, 0, true},
-	If:     {3, 1, 0, false},
-	Table:  {2, 1, 0, false},
-	Call:   {2, 0, 0, false},
-	Return: {1, 0, 0, true},
-	Goto:   {2, 0, 0, true},
+	Stop:   {1, 0, 0, 1, true},
+	Fail:   {1, 0, 0, 1, true},
+	Push:   {3, 0, 1, 1, false},
+	Pop:    {1, 1, 0, 1, false},
+	Add:    {1, 2, 1, 1, false},
+	Sub:    {1, 2, 1, 1, false},
+	Mul:    {1, 2, 1, 1, false},
+	Less:   {1, 2, 1, 1, false},
+	Same:   {1, 2, 1, 1, false},
+	Dup:    {2, 1, 2, 1, false},
+	Swap:   {2, 2, 2, 1, false},
+	Load:   {1, 1, 1, 1, false},
+	Store:  {1, 2, 0, 2, false},
+	Data:   {1, 1, 1, 1, false},
+	Emit:   {1, 1, 0, 2, false},
+	Jump:   {3, 0, 0, 1, true},
+	If:     {3, 1, 0, 1, false},
+	Table:  {2, 1, 0, 1, false},
+	Call:   {2, 0, 0, 3, false},
+	Return: {1, 0, 0, 1, true},
+	Goto:   {2, 0, 0, 1, true},
 }
 
 // Instruction is one of a code.
@@ -63,12 +63,25 @@ type Instruction struct {
 	Op      int
 	Place   int
 	End     int   // the place behind it
-	Number  int   // the n of Dup and Swap, the s of Call and Goto
+	Number  int   // the v of Push, the n of Dup and Swap, the s of Call and Goto
 	Targets []int // the places that its d lead to, in order
 }
 
-// Read reads the instruction that begins at a place of the code. The answer is ErrOp, if there is no such op, and ErrCut, if the instruction goes beyond the code's end.
-func Read(code string, place int) (Instruction, api.Errno) {
+// Split gives the instructions of a code in order, or what is wrong with the first that is none: ErrOp, if there is no such op, ErrCut, if it goes beyond the code's end; and its place.
+func Split(code string) ([]Instruction, api.Errno, int) {
+	var list []Instruction
+	for place := 0; place < len(code); {
+		in, e := read(code, place)
+		if e != api.OK {
+			return nil, e, place
+		}
+		list = append(list, in)
+		place = in.End
+	}
+	return list, api.OK, 0
+}
+
+func read(code string, place int) (Instruction, api.Errno) {
 	op := int(code[place])
 	if op >= len(rows) {
 		return Instruction{}, api.ErrOp
@@ -78,6 +91,8 @@ func Read(code string, place int) (Instruction, api.Errno) {
 		return Instruction{}, api.ErrCut
 	}
 	switch op {
+	case Push:
+		in.Number = number(code[place+1], code[place+2])
 	case Dup, Swap, Call, Goto:
 		in.Number = int(code[place+1])
 	case Jump, If:
@@ -100,15 +115,20 @@ func size(code string, place int) int {
 func targets(code string, from, end int) []int {
 	var places []int
 	for at := from; at < end; at += 2 {
-		places = append(places, end+signed(code[at], code[at+1]))
+		places = append(places, end+signed(number(code[at], code[at+1])))
 	}
 	return places
 }
 
-func signed(high, low byte) int { return int(int16(high)<<8 | int16(low)) }
+func number(high, low byte) int { return int(high)<<8 | int(low) }
+
+func signed(d int) int { return int(int16(d)) }
 
 // Last tells whether the code never goes on behind it by itself.
 func (in Instruction) Last() bool { return rows[in.Op].last }
+
+// Cost tells how much gas it takes.
+func (in Instruction) Cost() int { return rows[in.Op].cost }
 
 // Effect tells how many values it takes and brings, in a section of these; a section that it names must be there.
 func (in Instruction) Effect(sections []api.Section, own api.Section) (takes, brings int) {
